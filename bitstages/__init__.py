@@ -1,0 +1,1 @@
+"""Bitstages: values of 2 ** n places moved by stages."""
