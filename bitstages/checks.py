@@ -1,11 +1,12 @@
 """The checks of parameters: each raises the error of its parameter."""
 
 from bitstages.errors import InvalidBits, InvalidMapping, InvalidMasks, InvalidNumber
-from bitstages.errors import InvalidOrder, InvalidPlace, InvalidValues
+from bitstages.errors import InvalidOrder, InvalidPlace, InvalidRun, InvalidValues, TooLarge
 from bitstages.sums import reduced, widened
 
 MOST_BITS = 60
 MOST_MASKS = 100
+MOST_STAGES = 400
 
 
 def is_integer_value(value):
@@ -43,6 +44,34 @@ def is_order(bits, value):
     if not isinstance(value, list) or not all([is_integer_value(item) for item in value]):
         return False
     return sorted(value) == list(range(bits))
+
+
+def is_stage_for(bits, value):
+    """Return whether any value is a stage for so many bits."""
+    if not isinstance(value, tuple) or len(value) != 3:
+        return False
+    bit, mask, flip = value
+    if not is_between(bit, 0, bits - 1) or not is_place(bits, mask) or not is_between(flip, 0, 1):
+        return False
+    return not mask >> bit & 1
+
+
+def has_run_shape(value):
+    """Return whether any value is a list of at most 400 items."""
+    return isinstance(value, list) and len(value) <= MOST_STAGES
+
+
+def wrong_stage(bits, items):
+    """Return the index of the first item that is no stage, else None."""
+    for at, item in enumerate(items):
+        if not is_stage_for(bits, item):
+            return at
+    return None
+
+
+def is_run_for(bits, value):
+    """Return whether any value is a run for so many bits."""
+    return has_run_shape(value) and wrong_stage(bits, value) is None
 
 
 def wrong_row(rows):
@@ -111,6 +140,14 @@ def check_values(masks, values):
         raise InvalidValues(wrong)
 
 
+def check_run(bits, run):
+    if not has_run_shape(run):
+        raise InvalidRun(None)
+    wrong = wrong_stage(bits, run)
+    if wrong is not None:
+        raise InvalidRun(wrong)
+
+
 def check_order(bits, order):
     if not is_order(bits, order):
         raise InvalidOrder("no order of so many bits")
@@ -142,3 +179,8 @@ def check_index(index):
 def check_below(index, count):
     if index >= count:
         raise InvalidNumber("the index is too great")
+
+
+def check_at_most(bits, limit):
+    if bits > limit:
+        raise TooLarge(limit)

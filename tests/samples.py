@@ -1,6 +1,6 @@
 """For each function of the interface good arguments, and wrong ones with their errors."""
 
-from bitstages import errors, mappings, masks
+from bitstages import crowds, errors, mappings, masks, oneruns, orders, stages
 from tests import support
 
 UNITS = [2 ** bit for bit in range(60)]
@@ -82,6 +82,29 @@ def wrong_own_orders():
     return all_with(errors.InvalidOrder, NO_LISTS + [(1, 0)] + lists)
 
 
+def wrong_stages_of_three():
+    """Values that are no stages of three bits."""
+    found = [None, True, False, 0, 1, support.HUGE, "", "0:2:0", "020", [], [0, 2, 0], [(0, 2, 0)], {}, {"a": 1}, (), (0,),
+             (0, 2), (0, 2, 0, 0), ((0, 2, 0),), ((0, 2, 0), 0, 0), errors.InvalidRun(1)]
+    for bit in (-1, 3, 4, -3, support.HUGE, -support.HUGE, None, True, False, "0", "", [0], (0,), {}):
+        found += [(bit, 0, 0), (bit, 4, 1)]
+    for mask in (-1, -2, 1, 3, 7, 8, 10, support.HUGE, -support.HUGE, None, True, False, "2", [2], (2,), {}):
+        found += [(0, mask, 0), (0, mask, 1)]
+    for flip in (-1, 2, 3, support.HUGE, -support.HUGE, None, True, False, "0", "1", [0], (1,), {}):
+        found += [(0, 0, flip), (2, 3, flip)]
+    return found + [(1, 2, 0), (1, 3, 0), (2, 4, 1), (2, 7, 0), (0, 1, 2), (3, 8, 2), (None, None, None)]
+
+
+def wrong_runs_of_three():
+    good = (0, 2, 1)
+    longs = [[good] * 401, [good] * 2400 + [None], [None] * 401, [0] * 2400]
+    found = all_with(errors.InvalidRun, NO_LISTS + longs + [good, (good,), (good, good)], None)
+    for item in wrong_stages_of_three():
+        found += [([item], errors.InvalidRun, 0), ([good, item, item], errors.InvalidRun, 1),
+                  ([good] * 399 + [item], errors.InvalidRun, 399)]
+    return found
+
+
 def any_value():
     return ("value", [0], [])
 
@@ -96,6 +119,10 @@ def a_system():
 
 def calls():
     """Tuples of a function and its parameters: the name, a good value, the wrong ones with error and index."""
+    return first_calls() + later_calls()
+
+
+def first_calls():
     mask = ("mask", 6, wrong_places(3))
     place = ("place", 6, wrong_places(3))
     index = ("index", 1, wrong_numbers(-1, -10 ** 79, 2, 3, 10 ** 79, support.HUGE))
@@ -136,4 +163,65 @@ def calls():
         (mappings.changed_bits, [mapping]),
         (mappings.kept_count, [mapping]),
         (mappings.nth_kept, [swap, index]),
+    ]
+
+
+def bits_and_run():
+    return [("bits", 3, wrong_bits()), ("run", [(1, 1, 0), (0, 4, 1), (1, 0, 0)], wrong_runs_of_three())]
+
+
+def gray_along(order):
+    return [("mapping", ([3, 6, 4], 5), wrong_mappings()), ("order", order, wrong_orders(3))]
+
+
+def knot_along(order):
+    return [("mapping", ([7, 3, 5], 2), wrong_mappings()), ("order", order, wrong_orders(3))]
+
+
+def swap_stages():
+    return [("mapping", ([2, 1], 0), wrong_mappings()), ("order", [0, 1], wrong_orders(2)),
+            ("number", 1, wrong_numbers(-1, 3, 4, *FAR))]
+
+
+def later_calls():
+    knot = ("mapping", ([7, 3, 5], 2), wrong_mappings())
+    gray = ("mapping", ([3, 6, 4], 5), wrong_mappings())
+    swap = ("mapping", ([2, 1], 3), wrong_mappings())
+    own_order = ("order", [1, 0, 2], wrong_own_orders())
+    along = ("run", [(1, 5, 1), (0, 4, 0), (2, 3, 1)], wrong_runs_of_three())
+    at_two = ("index", 1, wrong_numbers(-1, 2, 3, *FAR))
+    return [
+        (stages.is_stage, [("bits", 3, wrong_bits()), ("value", (0, 2, 1), [])]),
+        (stages.is_run, [("bits", 3, wrong_bits()), ("value", [(0, 2, 1), (1, 0, 0)], [])]),
+        (stages.run_mapping, bits_and_run()),
+        (stages.turned_run, bits_and_run()),
+        (stages.places_on, bits_and_run() + [("place", 6, wrong_places(3))]),
+        (stages.busy_count, bits_and_run()),
+        (stages.is_along, [own_order, along]),
+        (stages.shows_run, [gray, ("value", [(0, 2, 1), (1, 0, 0)], [])]),
+        (oneruns.goes, gray_along([1, 2, 0])),
+        (oneruns.one_run, gray_along([1, 2, 0])),
+        (oneruns.meeting, knot_along([0, 1, 2])),
+        (oneruns.meeting, knot_along([1, 2, 0])),
+        (oneruns.shows_meeting, knot_along([0, 1, 2]) + [("value", (2, 0, 3), [])]),
+        (oneruns.first_crowded, knot_along([0, 1, 2])),
+        (oneruns.run_count, [("bits", 3, wrong_bits())]),
+        (oneruns.nth_run, [own_order, ("index", 77, wrong_numbers(-1, 512, 513, *FAR))]),
+        (oneruns.run_index, [own_order, along]),
+        (crowds.crowd, swap_stages() + [("place", 0, wrong_places(2))]),
+        (crowds.nth_in_crowd, swap_stages() + [("place", 0, wrong_places(2)), at_two]),
+        (crowds.used_count, swap_stages()),
+        (crowds.used_count, knot_along([0, 1, 2]) + [("number", 0, wrong_numbers(-1, 4, 5, *FAR))]),
+        (crowds.greatest_crowd, knot_along([0, 1, 2])),
+        (crowds.calmest_order, [knot]),
+        (orders.goes_always, [gray]),
+        (orders.row_sequence, [gray]),
+        (orders.fault_of, [knot]),
+        (orders.failing_order, [knot]),
+        (orders.shows_sequence, [gray, ("value", [2, 1, 0], [])]),
+        (orders.shows_fault, [knot, ("value", [0, 1], [])]),
+        (orders.order_count, [knot]),
+        (orders.nth_order, [knot, at_two]),
+        (orders.stuck_sets, [swap]),
+        (orders.shows_stuck, [swap, ("value", [0], [])]),
     ]

@@ -160,6 +160,109 @@ def some_places(bits, chance, many):
     return [chance.randrange(2 ** bits) for _ in range(many)] + [0, 2 ** bits - 1]
 
 
+def slow_is_stage(bits, value):
+    """Whether any value is a stage."""
+    if type(value) is not tuple or len(value) != 3 or {type(item) for item in value} != {int}:
+        return False
+    bit, mask, flip = value
+    return 0 <= bit < bits and 0 <= mask < 2 ** bits and mask // 2 ** bit % 2 == 0 and flip in (0, 1)
+
+
+def slow_move(stage, place):
+    """Where a stage moves the value of a place, as it is defined."""
+    bit, mask, flip = stage
+    if odd(place, mask) == (flip == 0):
+        return place ^ 2 ** bit
+    return place
+
+
+def slow_walk(run, place):
+    """Where a run moves the value of a place."""
+    for stage in run:
+        place = slow_move(stage, place)
+    return place
+
+
+def stages_at(bits, bit):
+    """All stages at a bit, ascending."""
+    return [(bit, mask, flip) for mask in range(2 ** bits) if not mask >> bit & 1 for flip in (0, 1)]
+
+
+def some_stage(bits, bit, chance):
+    return bit, chance.randrange(2 ** bits) & ~(1 << bit), chance.randrange(2)
+
+
+def some_run(bits, many, chance):
+    return [some_stage(bits, chance.randrange(bits), chance) for _ in range(many)]
+
+
+def some_run_along(order, chance):
+    return [some_stage(len(order), bit, chance) for bit in order]
+
+
+def slow_mapping(bits, run):
+    """The mapping that a run makes, from where the values of 0 and of single bits come."""
+    offset = slow_walk(run, 0)
+    columns = [slow_walk(run, 2 ** bit) ^ offset for bit in range(bits)]
+    rows = [sum((column >> bit & 1) << k for k, column in enumerate(columns)) for bit in range(bits)]
+    return rows, offset
+
+
+def place_between(mapping, order, number, place):
+    """Where the value of a place would be behind a number of stages."""
+    end = slow_end(mapping, place)
+    for bit in order[:number]:
+        place = place & ~(1 << bit) | end & 1 << bit
+    return place
+
+
+def slow_crowds(mapping, order, number):
+    """The dict from each used place to the ascending list of the first places of the values there."""
+    found = {}
+    for place in range(2 ** len(order)):
+        found.setdefault(place_between(mapping, order, number, place), []).append(place)
+    return found
+
+
+def slow_greatest(mapping, order):
+    """The greatest crowd behind any number of stages, and the least such number."""
+    sizes = [max(map(len, slow_crowds(mapping, order, number).values())) for number in range(len(order) + 1)]
+    return max(sizes), sizes.index(max(sizes))
+
+
+def slow_crowded(mapping, order):
+    """The least number of stages behind which two values meet, None if there is none."""
+    for number in range(1, len(order) + 1):
+        if len(slow_crowds(mapping, order, number)) < 2 ** len(order):
+            return number
+    return None
+
+
+def slow_goes(mapping, order):
+    return slow_crowded(mapping, order) is None
+
+
+def slow_fits(mapping, mask):
+    """Whether the rows of the bits of a mask, cut down to these bits, are independent."""
+    rows = [row & mask for bit, row in enumerate(mapping[0]) if mask >> bit & 1]
+    return slow_rank(rows) == len(rows)
+
+
+def orders_of(bits):
+    return [list(order) for order in itertools.permutations(range(bits))]
+
+
+def some_triangle(bits, chance, share=0.5):
+    """A mapping that goes in every order, and a sequence of its bits that shows it."""
+    sequence = chance.sample(range(bits), bits)
+    rows, ahead = [0] * bits, 0
+    for bit in sequence:
+        few = sum(1 << at for at in range(bits) if chance.random() < share)
+        rows[bit] = ahead & few | 1 << bit
+        ahead |= 1 << bit
+    return (rows, chance.randrange(2 ** bits)), sequence
+
+
 def mask_lists(most):
     """All pairs of few bits and a list of masks, of at most so many masks, and some longer ones."""
     for bits in (1, 2):

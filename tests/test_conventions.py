@@ -1,8 +1,30 @@
 """Promise [2]: ways to call, arguments that stay as they are, lists that are new."""
 
+import importlib
 import unittest
 
 from tests import samples, support
+
+
+FILES = {
+    "stages": "is_stage is_run run_mapping turned_run places_on busy_count is_along shows_run",
+    "oneruns": "goes one_run meeting shows_meeting first_crowded run_count nth_run run_index",
+    "crowds": "crowd nth_in_crowd used_count greatest_crowd calmest_order",
+    "orders": "goes_always row_sequence fault_of failing_order shows_sequence shows_fault order_count nth_order "
+              "stuck_sets shows_stuck",
+}
+
+
+class FilesTest(unittest.TestCase):
+
+    def test_each_function_is_defined_in_its_file(self):
+        called = {function for function, _ in samples.calls()}
+        for file, names in FILES.items():
+            module = importlib.import_module(f"bitstages.{file}")
+            for name in names.split():
+                with self.subTest(file, name=name):
+                    self.assertEqual(getattr(module, name).__module__, f"bitstages.{file}")
+                    self.assertIn(getattr(module, name), called)
 
 
 class ConventionsTest(unittest.TestCase):
