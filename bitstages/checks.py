@@ -1,12 +1,13 @@
 """The checks of parameters: each raises the error of its parameter."""
 
 from bitstages.errors import InvalidBits, InvalidMapping, InvalidMasks, InvalidNumber
-from bitstages.errors import InvalidOrder, InvalidPlace, InvalidRun, InvalidValues, TooLarge
+from bitstages.errors import InvalidOrder, InvalidPlace, InvalidRun, InvalidValues, InvalidWays, TooLarge
 from bitstages.sums import reduced, widened
 
 MOST_BITS = 60
 MOST_MASKS = 100
 MOST_STAGES = 400
+MOST_WAYS = 100
 
 
 def is_integer_value(value):
@@ -54,6 +55,11 @@ def is_stage_for(bits, value):
     if not is_between(bit, 0, bits - 1) or not is_place(bits, mask) or not is_between(flip, 0, 1):
         return False
     return not mask >> bit & 1
+
+
+def is_way(bits, value):
+    """Return whether any value is a tuple of two places."""
+    return isinstance(value, tuple) and len(value) == 2 and is_place(bits, value[0]) and is_place(bits, value[1])
 
 
 def has_run_shape(value):
@@ -158,6 +164,14 @@ def check_own_order(order):
     if not isinstance(order, list) or not 1 <= len(order) <= MOST_BITS:
         raise InvalidOrder("no list of 1 to 60 bits")
     check_order(len(order), order)
+
+
+def check_ways(bits, ways):
+    if not isinstance(ways, list) or len(ways) > MOST_WAYS:
+        raise InvalidWays(None)
+    for at, way in enumerate(ways):
+        if not is_way(bits, way):
+            raise InvalidWays(at)
 
 
 def check_integer(number):

@@ -29,7 +29,8 @@ def nth_in_crowd(mapping, order, number, place, index):
 def used_count(mapping, order, number):
     """Return at how many places at least one value would be."""
     _check_stages_done(mapping, order, number)
-    return 1 << len(order) - lost_within(mapping[0], choice_of(order[:number]))
+    done = choice_of(order[:number])
+    return 1 << len(order) - lost_within(mapping[0], done, done)
 
 
 def greatest_crowd(mapping, order):
@@ -37,7 +38,8 @@ def greatest_crowd(mapping, order):
     check_mapping(mapping)
     rows, _ = mapping
     check_order(len(rows), order)
-    lost = [lost_within(rows, choice_of(order[:number])) for number in range(len(order) + 1)]
+    masks = [choice_of(order[:number]) for number in range(len(order) + 1)]
+    lost = [lost_within(rows, mask, mask) for mask in masks]
     most = max(lost)
     return 1 << most, lost.index(most)
 

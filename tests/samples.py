@@ -1,6 +1,6 @@
 """For each function of the interface good arguments, and wrong ones with their errors."""
 
-from bitstages import crowds, errors, mappings, masks, oneruns, orders, stages
+from bitstages import counts, crowds, errors, fewest, mappings, masks, oneruns, orders, seen, stages, tworuns
 from tests import support
 
 UNITS = [2 ** bit for bit in range(60)]
@@ -105,6 +105,21 @@ def wrong_runs_of_three():
     return found
 
 
+def wrong_ways(bits):
+    top = 2 ** bits
+    longs = [[(0, 0)] * 101, [(top, 0)] * 101, [None] * 101, [0] * 2400, [(0, 0)] * 800]
+    found = all_with(errors.InvalidWays, NO_LISTS + longs + [((0, 0),), ((0, 0), (1, 1))], None)
+    items = [None, True, False, 0, 1, -1, top, support.HUGE, "", "01", "0 0", [], [0, 0], [(0, 0)], {}, {"0": 0}, (), (0,),
+             (0, 0, 0), ((0, 0),), ((0, 0), (0, 0)), (0, [0]), ((0,), 0), errors.InvalidWays(0)]
+    for wrong in (-1, top, top + 1, -top, support.HUGE, -support.HUGE, None, True, False, "0", "", (), [0], {}):
+        items += [(wrong, 0), (0, wrong), (wrong, wrong), (top - 1, wrong)]
+    good = (top - 1, 0)
+    for item in items:
+        found += [([item], errors.InvalidWays, 0), ([good, item, item], errors.InvalidWays, 1),
+                  ([good] * 99 + [item], errors.InvalidWays, 99)]
+    return found
+
+
 def any_value():
     return ("value", [0], [])
 
@@ -119,7 +134,7 @@ def a_system():
 
 def calls():
     """Tuples of a function and its parameters: the name, a good value, the wrong ones with error and index."""
-    return first_calls() + later_calls()
+    return first_calls() + later_calls() + calls_of_fewest() + calls_of_seen()
 
 
 def first_calls():
@@ -163,6 +178,66 @@ def first_calls():
         (mappings.changed_bits, [mapping]),
         (mappings.kept_count, [mapping]),
         (mappings.nth_kept, [swap, index]),
+    ]
+
+
+def knot_along_both():
+    return [("mapping", ([7, 3, 5], 2), wrong_mappings()), ("order", [2, 0, 1], wrong_orders(3)),
+            ("other_order", [1, 0, 2], wrong_orders(3))]
+
+
+def calls_of_fewest():
+    knot = ("mapping", ([7, 3, 5], 2), wrong_mappings())
+    swap = ("mapping", ([2, 1, 4], 5), wrong_mappings())
+    serving = ("mask", 1, wrong_places(3))
+    barred = ("mask", 4, wrong_places(3))
+    return [
+        (tworuns.two_runs, knot_along_both()),
+        (tworuns.shows_two_runs, knot_along_both() + [("value", ([(0, 0, 0)], [[1], 2]), [])]),
+        (fewest.stage_bounds, [knot]),
+        (fewest.fewest_stages, [knot]),
+        (fewest.shortest_run, [knot]),
+        (fewest.shortest_run, [("mapping", (UNITS[::-1], 7), [])]),
+        (fewest.serves, [swap, serving]),
+        (fewest.serving_sequence, [swap, serving]),
+        (fewest.serving_sequence, [swap, barred]),
+        (fewest.barring_sets, [swap, barred]),
+        (fewest.barring_sets, [swap, serving]),
+        (fewest.shows_serving, [swap, serving, ("value", [1, 2], [])]),
+        (fewest.shows_barring, [swap, barred, ("value", [0, [1]], [])]),
+        (fewest.best_twice, [swap]),
+        (counts.mapping_count, [("bits", 3, wrong_bits())]),
+        (counts.always_count, [("bits", 3, wrong_bits())]),
+        (counts.share_of, [("bits", 3, wrong_bits())]),
+    ]
+
+
+def bits_and_ways():
+    return [("bits", 3, wrong_bits()), ("ways", [(1, 2), (5, 7), (1, 2)], wrong_ways(3))]
+
+
+def clashing():
+    return [("bits", 3, wrong_bits()), ("ways", [(1, 2), (5, 7), (5, 6)], wrong_ways(3))]
+
+
+def calls_of_seen():
+    gray = ("mapping", ([3, 6, 4], 5), wrong_mappings())
+    place = ("place", 6, wrong_places(3))
+    seen_place = ("place", 5, wrong_places(3))
+    end = ("end", 3, wrong_places(3))
+    return [
+        (seen.agrees, [gray, bits_and_ways()[1]]),
+        (seen.some_mapping, bits_and_ways()),
+        (seen.some_mapping, clashing()),
+        (seen.some_mapping, [("bits", 3, wrong_bits()), ("ways", [], wrong_ways(3))]),
+        (seen.clash, bits_and_ways()),
+        (seen.clash, clashing()),
+        (seen.shows_clash, clashing() + [("value", [1, 2], [])]),
+        (seen.agreeing_count, bits_and_ways()),
+        (seen.sure_end, bits_and_ways() + [place]),
+        (seen.sure_end, bits_and_ways() + [seen_place]),
+        (seen.can_end, bits_and_ways() + [place, end]),
+        (seen.ends_needed, bits_and_ways()),
     ]
 
 

@@ -39,6 +39,15 @@ def outcome(call, *args, **named):
     return "no error"
 
 
+def limit_of(call, *args):
+    """The limit of the TooLarge that a call raises, "none" without one."""
+    try:
+        call(*args)
+    except errors.TooLarge as error:
+        return error.limit
+    return "none"
+
+
 def odd(place, mask):
     """Whether a place is odd for a mask."""
     return bin(place & mask).count("1") % 2 == 1
@@ -242,10 +251,16 @@ def slow_goes(mapping, order):
     return slow_crowded(mapping, order) is None
 
 
-def slow_fits(mapping, mask):
-    """Whether the rows of the bits of a mask, cut down to these bits, are independent."""
-    rows = [row & mask for bit, row in enumerate(mapping[0]) if mask >> bit & 1]
+def slow_fits(mapping, mask, further=0):
+    """Whether the rows of the bits of a mask, cut down to these bits and further ones, are independent."""
+    rows = [row & (mask | further) for bit, row in enumerate(mapping[0]) if mask >> bit & 1]
     return slow_rank(rows) == len(rows)
+
+
+def slow_changed(mapping):
+    """The ascending list of the changed bits."""
+    rows, offset = mapping
+    return [bit for bit in range(len(rows)) if (rows[bit], offset >> bit & 1) != (2 ** bit, 0)]
 
 
 def orders_of(bits):

@@ -12,6 +12,11 @@ FILES = {
     "crowds": "crowd nth_in_crowd used_count greatest_crowd calmest_order",
     "orders": "goes_always row_sequence fault_of failing_order shows_sequence shows_fault order_count nth_order "
               "stuck_sets shows_stuck",
+    "tworuns": "two_runs shows_two_runs",
+    "fewest": "stage_bounds fewest_stages shortest_run serves serving_sequence barring_sets shows_serving shows_barring "
+              "best_twice",
+    "counts": "mapping_count always_count share_of",
+    "seen": "agrees some_mapping clash shows_clash agreeing_count sure_end can_end ends_needed",
 }
 
 
