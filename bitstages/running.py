@@ -12,13 +12,18 @@ def place_behind(stage, place):
 
 def made_by(bits, run):
     """Return the mapping that a run makes."""
-    rows = units(bits)
+    rows = list(units(bits))
     offset = 0
     for stage in run:
         bit, mask, _ = stage
         rows[bit] = rows[bit] ^ sum_chosen(rows, mask)
         offset = place_behind(stage, offset)
     return rows, offset
+
+
+def busy_in(run):
+    """Return how many stages of a run are not idle."""
+    return len([bit for bit, mask, flip in run if mask != 0 or flip != 0])
 
 
 def is_along_order(order, run):

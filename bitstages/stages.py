@@ -2,7 +2,7 @@
 
 from bitstages.checks import check_bits, check_mapping, check_own_order, check_place, check_run
 from bitstages.checks import is_run_for, is_stage_for
-from bitstages.running import is_along_order, made_by, place_behind
+from bitstages.running import busy_in, is_along_order, made_by, place_behind
 
 
 def is_stage(bits, value):
@@ -42,7 +42,7 @@ def places_on(bits, run, place):
 def busy_count(bits, run):
     """Return how many stages of a run are not idle."""
     _check_bits_and_run(bits, run)
-    return len([bit for bit, mask, flip in run if mask != 0 or flip != 0])
+    return busy_in(run)
 
 
 def is_along(order, run):

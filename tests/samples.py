@@ -1,12 +1,14 @@
 """For each function of the interface good arguments, and wrong ones with their errors."""
 
-from bitstages import counts, crowds, errors, fewest, mappings, masks, oneruns, orders, seen, stages, tworuns
+from bitstages import console, counts, crowds, errors, fewest, halls, led, mappings, masks, oneruns, orders, seen, stages
+from bitstages import texts, tworuns
 from tests import support
 
 UNITS = [2 ** bit for bit in range(60)]
-NO_INTEGERS = [None, True, False, "", "1", "abc", (), (1,), [], [1], [[1]], {}, {"a": 1}, errors.StageError("text")]
+NO_INTEGERS = [None, True, False, "", "1", "abc", (), (1,), [], [1], [[1]], {}, {"a": 1}, errors.StageError("text"),
+               halls.Hall(1)]
 NO_LISTS = [None, True, False, 0, 5, -1, support.HUGE, "", "01", "abc", (), (0,), (0, 1), (0, 1, 2), {}, {"a": 1},
-            errors.InvalidMapping(1)]
+            errors.InvalidMapping(1), halls.LineHall([0, 1]), console.Console()]
 FAR = [10 ** 79, -10 ** 79, support.HUGE, -support.HUGE]
 
 
@@ -134,7 +136,7 @@ def a_system():
 
 def calls():
     """Tuples of a function and its parameters: the name, a good value, the wrong ones with error and index."""
-    return first_calls() + later_calls() + calls_of_fewest() + calls_of_seen()
+    return first_calls() + later_calls() + calls_of_fewest() + calls_of_seen() + calls_of_led() + calls_of_texts() + calls_of_halls()
 
 
 def first_calls():
@@ -238,6 +240,114 @@ def calls_of_seen():
         (seen.sure_end, bits_and_ways() + [seen_place]),
         (seen.can_end, bits_and_ways() + [place, end]),
         (seen.ends_needed, bits_and_ways()),
+    ]
+
+
+def order_and_ways():
+    return [("order", [1, 2, 0], wrong_own_orders()), ("ways", [(1, 2), (5, 7), (1, 2)], wrong_ways(3))]
+
+
+def blocking():
+    return [("order", [1, 2, 0], wrong_own_orders()), ("ways", [(1, 2), (5, 7), (3, 4)], wrong_ways(3))]
+
+
+def calls_of_led():
+    place = ("place", 6, wrong_places(3))
+    index = ("index", 5, wrong_numbers(-1, 10 ** 79, support.HUGE, -support.HUGE, 16, 17))
+    return [
+        (led.some_led, order_and_ways()),
+        (led.some_led, blocking()),
+        (led.some_led, [("order", [1, 0], wrong_own_orders()), ("ways", [], wrong_ways(2))]),
+        (led.blocked, order_and_ways()),
+        (led.blocked, blocking()),
+        (led.shows_blocked, blocking() + [("value", (0, [0, 1]), [])]),
+        (led.led_count, order_and_ways()),
+        (led.nth_led, order_and_ways() + [index]),
+        (led.led_end, order_and_ways() + [place]),
+        (led.led_end, order_and_ways() + [("place", 5, wrong_places(3))]),
+        (led.first_open, order_and_ways() + [place]),
+        (led.can_lead, order_and_ways() + [place, ("end", 3, wrong_places(3))]),
+    ]
+
+
+def wrong_texts(*pairs):
+    no_strings = [value for value in support.odd_values() if not isinstance(value, str)]
+    return all_with(errors.InvalidText, no_strings, None) + [(text, errors.InvalidText, word) for text, word in pairs]
+
+
+def wrong_runs_of_sixty():
+    good = (59, 0, 1)
+    found = all_with(errors.InvalidRun, NO_LISTS + [[good] * 401, (good,)], None)
+    for item in [(60, 0, 0), (0, 1, 0), (1, 2 ** 60, 0), (0, 0, 2), None, [0, 0, 0], halls.Hall(1)]:
+        found += [([item], errors.InvalidRun, 0), ([good] * 7 + [item, item], errors.InvalidRun, 7)]
+    return found
+
+
+def calls_of_texts():
+    run_texts = wrong_texts((" ", 0), ("1", 0), ("0:1:0", 0), ("0:0:0 ", 1), ("0:0:0 x", 1), ("0:0:0 3:0:0", 1))
+    return [
+        (texts.format_run, [("run", [(59, 1, 0), (0, 2 ** 59, 1)], wrong_runs_of_sixty())]),
+        (texts.format_mapping, [("mapping", ([3, 6, 4], 5), wrong_mappings())]),
+        (texts.parse_run, [("bits", 3, wrong_bits()), ("text", "1:1:0 0:4:1", run_texts)]),
+        (texts.parse_mapping, [("text", "3,6,4 5", wrong_texts(("", 0), ("1", 1), ("1,1 0", 0), ("1 2", 1), ("1 0 0", 2)))]),
+    ]
+
+
+def a_hall(bits):
+    return halls.Hall(bits).described()
+
+
+def a_line_hall(order):
+    return halls.LineHall(order).order
+
+
+def a_budget_hall(bits, most):
+    return halls.BudgetHall(bits, most).described()
+
+
+def a_line_budget_hall(order, most):
+    return halls.LineBudgetHall(order, most).described()
+
+
+def a_command(command):
+    """The answer of a new console, behind some commands."""
+    fresh = console.Console()
+    fresh.execute("bits 3")
+    fresh.execute("run 0:6:1 2:1:0")
+    return fresh.execute(command)
+
+
+def some_hall():
+    hall = halls.Hall(3)
+    hall.run([(0, 6, 1), (2, 1, 0)])
+    return hall
+
+
+def calls_of_halls():
+    hall, busy = some_hall(), some_hall()
+    line = halls.LineHall([1, 0, 2])
+    stage_parts = [("bit", 1, all_with(errors.InvalidStage, NO_INTEGERS + FAR + [-1, 3, 0, 2])),
+                   ("mask", 5, all_with(errors.InvalidStage, NO_INTEGERS + FAR + [-1, 2, 7, 8])),
+                   ("flip", 1, all_with(errors.InvalidStage, NO_INTEGERS + FAR + [-1, 2]))]
+    unlike = [(([1], 0), errors.UnlikeBits, "none"), (([2, 1], 3), errors.UnlikeBits, "none"), ((UNITS, 5), errors.UnlikeBits, "none")]
+    mapping = ("mapping", ([3, 6, 4], 5), wrong_mappings() + unlike)
+    most = ("most", 7, wrong_numbers(-1, -10 ** 79, -support.HUGE))
+    bits, order = ("bits", 3, wrong_bits()), ("order", [1, 2, 0], wrong_own_orders())
+    commands = all_with(errors.InvalidCommand, support.odd_values() + ["bits", "state 1", "undo undo", "run 1", "where x"])
+    return [
+        (a_hall, [bits]),
+        (a_line_hall, [order]),
+        (a_budget_hall, [bits, most]),
+        (a_line_budget_hall, [order, most]),
+        (busy.stage, stage_parts),
+        (busy.run, [("run", [(1, 1, 0), (0, 4, 1)], wrong_runs_of_three())]),
+        (line.run, [("run", [], wrong_runs_of_three())]),
+        (hall.where, [("place", 6, wrong_places(3))]),
+        (hall.whence, [("place", 6, wrong_places(3))]),
+        (hall.left_for, [mapping]),
+        (hall.fewest_left, [mapping]),
+        (a_command, [("command", "left 3 6 4 5", commands)]),
+        (a_command, [("command", "state", commands)]),
     ]
 
 

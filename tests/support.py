@@ -4,7 +4,7 @@ import copy
 import itertools
 import random
 
-from bitstages import errors
+from bitstages import console, errors, halls
 
 HUGE = 10 ** 400 - 1
 
@@ -27,15 +27,17 @@ def odd_values():
         [1, 0], [0, 0], [1, 1], [0, 1, 1], [0, 0, 1], [2, 1, 0], [0] * 2400, list(range(2400)), nested(5),
         {}, {"0": 0}, {"a": [1, {"b": None}]}, {"rows": [1], "offset": 0},
         errors.StageError("one"), errors.InvalidPlace("two"), errors.InvalidMapping(3), errors.Refused(None),
+        halls.Hall(1), halls.LineHall([0, 1]), halls.BudgetHall(2, 0), halls.LineBudgetHall([0], 1), console.Console(),
+        [halls.Hall(1)], (halls.Hall(1), 0), ([halls.Hall(2)], 0), {"hall": halls.Hall(2)}, [0, console.Console()],
     ]
 
 
 def outcome(call, *args, **named):
-    """The tuple of the class of the error that a call raises and its index, "none" without one."""
+    """The tuple of the class of the error that a call raises and its index or word, "none" without one."""
     try:
         call(*args, **named)
     except errors.StageError as error:
-        return type(error), getattr(error, "index", "none")
+        return type(error), getattr(error, "index", getattr(error, "word", "none"))
     return "no error"
 
 

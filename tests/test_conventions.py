@@ -17,6 +17,8 @@ FILES = {
               "best_twice",
     "counts": "mapping_count always_count share_of",
     "seen": "agrees some_mapping clash shows_clash agreeing_count sure_end can_end ends_needed",
+    "led": "some_led blocked shows_blocked led_count nth_led led_end first_open can_lead",
+    "texts": "format_run format_mapping parse_run parse_mapping",
 }
 
 
